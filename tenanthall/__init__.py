@@ -1,0 +1,1 @@
+"""Tenanthall: a hall of many tenants, each as if it were alone."""

@@ -1,0 +1,47 @@
+"""The interface: names, arguments, and where each is defined."""
+
+import importlib
+import inspect
+import unittest
+
+SIGNATURES = {
+    "kinds": ("is_number(thing)", "is_whole(thing)", "is_word(thing)", "is_value(thing)", "is_row(thing)",
+              "is_store(thing)", "is_cond(thing)", "are_conds(thing)", "is_deed(thing)", "is_ask(thing)",
+              "is_job(thing)"),
+    "stores": ("tables_of(store)", "rows_of(store, table)", "next_of(store, table)", "indexes_of(store, table)",
+               "row_of(store, table, id_told)", "many_rows(store)"),
+    "forms": ("form_of(job)", "job_of(form, fills)"),
+    "tokens": ("is_fraction(thing)", "is_share(thing)", "ratio(over, under)", "added(one, other)",
+               "lesser(one, other)", "is_less(one, other)", "wholes(fraction)", "grown(tokens, share)",
+               "paid(tokens, cost)", "pace_of(share, ticks, *, tokens=(0, 1))"),
+    "pacepapers": ("givens_of(paper, name, *, ticks)",),
+    "exports": ("exported(store)", "letters(store)"),
+    "days": ("is_calendar(thing)", "day_of(tick, *, calendar=(5, 4))", "period_of(day, *, calendar=(5, 4))",
+             "noted(notes, day, kind, units)"),
+    "rules": ("is_rules(thing)", "reached(store, rule)", "kept_rows(store, *, rules, tick)",
+              "due_rows(store, *, rules, tick)", "strays(store, *, rules, land)",
+              "store_struck(store, *, rules, tick)"),
+    "sights": ("sight_of(log, name)", "shape_of(store)"),
+    "parting": ("parted_steps(steps, name)",),
+    "alikepapers": ("alike_paper(one, other, name)",),
+    "alikechecker": ("lets_alike(one, other, name, thing)",),
+    "lines": ("shown_value(value)", "shown_job(job)", "shown_rule(rule)", "shown_share(share)", "shown_store(store)"),
+    "readings": ("read_value(text, *, line=0)", "read_job(text, *, line=0)", "read_rule(text, *, line=0)",
+                 "read_share(text, *, line=0)", "read_store(text)"),
+}
+
+
+class Interface(unittest.TestCase):
+
+    def test_functions_stand_where_the_interface_lists_them(self):
+        for name, told in SIGNATURES.items():
+            module = importlib.import_module(f"tenanthall.{name}")
+            for signature in told:
+                called = getattr(module, signature.partition("(")[0])
+                self.assertTrue(inspect.isfunction(called))
+                self.assertEqual(called.__module__, module.__name__)
+                self.assertEqual(called.__name__ + str(inspect.signature(called)), signature)
+
+
+if __name__ == "__main__":
+    unittest.main()
