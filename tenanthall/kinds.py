@@ -188,6 +188,11 @@ def is_rule(thing):
     return begins_with_text(thing) and thing[0] in RULES and are_parts(thing[1:], RULES[thing[0]])
 
 
+def is_refusal(told):
+    """Whether what a JOB told is a REFUSAL: no ANSWER has a bare text ahead, for worths have texts in SAIDS alone."""
+    return begins_with_text(told) and told[0] == "no"
+
+
 def job_parts(word):
     """The kinds of what stands behind the word of a JOB; () where no JOB has this word."""
     if word in DEEDS:

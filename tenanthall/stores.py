@@ -1,6 +1,6 @@
-"""What is told of a STORE: its tables, and their rows, nexts and indexes."""
+"""What is told of a STORE: its tables, and their rows, nexts and indexes; and ROWS by their SPOTS."""
 
-from tenanthall.kinds import is_number
+from tenanthall.kinds import is_link, is_number
 
 
 def tables_of(store):
@@ -50,3 +50,25 @@ def many_rows(store):
 def placed_rows(store):
     """A list of (table, ROW), one for each ROW of a STORE, by rising tables and ids."""
     return [(entry[0], row) for entry in store for row in entry[2]]
+
+
+def spotted_rows(store):
+    """A dict of the ROWS of a STORE by their SPOTS."""
+    return {(table, row[0]): row for table, row in placed_rows(store)}
+
+
+def with_spotted(store, spotted):
+    """The tables of a STORE, each with those alone of the spotted ROWS that are its own, by rising id."""
+    filled = []
+    for table, after, _, indexes in store:
+        rows = tuple([spotted[spot] for spot in sorted(spotted) if spot[0] == table])
+        filled.append((table, after, rows, indexes))
+    return tuple(filled)
+
+
+def link_at(row, k):
+    """The SPOT to which worth k of a ROW leads; None where the ROW has no such worth, or this is no LINK."""
+    worths = row[3]
+    if k >= len(worths) or not is_link(worths[k]):
+        return None
+    return worths[k][1:]

@@ -10,17 +10,25 @@ SIGNATURES = {
               "is_job(thing)"),
     "stores": ("tables_of(store)", "rows_of(store, table)", "next_of(store, table)", "indexes_of(store, table)",
                "row_of(store, table, id_told)", "many_rows(store)"),
+    "conds": ("meets(row, conds)", "meeting(store, table, conds)"),
     "forms": ("form_of(job)", "job_of(form, fills)"),
     "tokens": ("is_fraction(thing)", "is_share(thing)", "ratio(over, under)", "added(one, other)",
                "lesser(one, other)", "is_less(one, other)", "wholes(fraction)", "grown(tokens, share)",
                "paid(tokens, cost)", "pace_of(share, ticks, *, tokens=(0, 1))"),
+    "houses": ("is_house(thing)", "admitted(house, name, share)", "left(house, name)"),
+    "pacechecker": ("lets_pace(house, thing, *, ticks)",),
     "pacepapers": ("givens_of(paper, name, *, ticks)",),
     "exports": ("exported(store)", "letters(store)"),
     "days": ("is_calendar(thing)", "day_of(tick, *, calendar=(5, 4))", "period_of(day, *, calendar=(5, 4))",
              "noted(notes, day, kind, units)"),
+    "prices": ("is_prices(thing)", "cost(tiers, units, *, ahead=0)"),
+    "bills": ("bill_of(notes, day, *, prices, calendar=(5, 4))",
+              "bills_until(notes, until, *, prices, calendar=(5, 4))", "summed(lines)"),
     "rules": ("is_rules(thing)", "reached(store, rule)", "kept_rows(store, *, rules, tick)",
               "due_rows(store, *, rules, tick)", "strays(store, *, rules, land)",
               "store_struck(store, *, rules, tick)"),
+    "showing": ("shown_by(store, ask, answer)", "book_with(book, store, ask, answer, *, rules, tick)"),
+    "places": ("due_in(places, *, rules, tick)", "places_struck(places, *, rules, tick)"),
     "sights": ("sight_of(log, name)", "shape_of(store)"),
     "parting": ("parted_steps(steps, name)",),
     "alikepapers": ("alike_paper(one, other, name)",),
@@ -28,6 +36,10 @@ SIGNATURES = {
     "lines": ("shown_value(value)", "shown_job(job)", "shown_rule(rule)", "shown_share(share)", "shown_store(store)"),
     "readings": ("read_value(text, *, line=0)", "read_job(text, *, line=0)", "read_rule(text, *, line=0)",
                  "read_share(text, *, line=0)", "read_store(text)"),
+}
+
+METHODS = {
+    ("formkeep", "FormKeep()"): ("job(self, form, fills)", "forms(self)", "read(self)", "__len__(self)"),
 }
 
 
@@ -41,6 +53,17 @@ class Interface(unittest.TestCase):
                 self.assertTrue(inspect.isfunction(called))
                 self.assertEqual(called.__module__, module.__name__)
                 self.assertEqual(called.__name__ + str(inspect.signature(called)), signature)
+
+    def test_classes_have_their_methods_in_their_own_bodies(self):
+        for (name, signature), told in METHODS.items():
+            module = importlib.import_module(f"tenanthall.{name}")
+            made = getattr(module, signature.partition("(")[0])
+            self.assertTrue(inspect.isclass(made))
+            self.assertEqual(made.__module__, module.__name__)
+            self.assertEqual(made.__name__ + str(inspect.signature(made)), signature)
+            for method in told:
+                called = vars(made)[method.partition("(")[0]]
+                self.assertEqual(called.__name__ + str(inspect.signature(called)), method)
 
 
 if __name__ == "__main__":

@@ -17,6 +17,7 @@ setdefault split splitlines startswith strip update upper values zfill bit_lengt
 isascii""".split())
 LIBRARY = {"heapq": {"heappush", "heappop"}, "math": {"gcd", "lcm", "isqrt", "comb", "perm", "factorial"},
            "itertools": {"product", "combinations", "permutations"}}
+OWN_DOUBLE = {"__init__", "__len__"}
 BARRED_NODES = (ast.Global, ast.AsyncFunctionDef, ast.AsyncFor, ast.AsyncWith, ast.Await, ast.GeneratorExp, ast.Div,
                 ast.AnnAssign, ast.Lambda, ast.Yield, ast.YieldFrom, ast.Import)
 BARRED_WORDS = r"\b(typing|enum|Enum|Generic|Protocol|ABC|namedtuple)\b|dataclass|overload|contextmanager|_wall|_Wall"
@@ -99,7 +100,7 @@ class Names(unittest.TestCase):
     def test_no_builtin_is_given_another_meaning(self):
         for path, tree in trees():
             for name in given_names(tree):
-                if name != "__init__":
+                if name not in OWN_DOUBLE:
                     self.assertFalse(hasattr(builtins, name), (path, name))
                     self.assertNotIn(name, BARRED_NAMES, path)
                     self.assertFalse(name.startswith("__"), (path, name))
