@@ -69,6 +69,11 @@ class Until(unittest.TestCase):
             days = [bill_of(NOTES, day, prices=PRICES, calendar=calendar) for day in range(11)]
             self.assertEqual(bills_until(NOTES, 11, prices=PRICES, calendar=calendar), sum(days, ()))
 
+    def test_in_order_whatever_the_days(self):
+        days = (1, 7, 8, 16, 31, 32, 1000, 10 ** 6)
+        told = bills_until(tuple((day, "room", 1) for day in days), 10 ** 7, prices=PRICES)
+        self.assertEqual(told, tuple((day, "room", 1, 2) for day in days))
+
     def test_arguments(self):
         self.assertEqual(bills_until(calendar=(5, 4), prices=PRICES, until=1, notes=NOTES), LINES[:2])
         self.assertEqual(bills_until((), 9, prices=PRICES), ())

@@ -53,6 +53,10 @@ class Due(unittest.TestCase):
                (1, ("put", "dept", EU, ()), 1))
         self.assertEqual(due((("log", log),)), ((0, "dept", 1), (0, "dept", 9), (0, "emp", 2), (0, "emp", 4)))
 
+    def test_nothing_twice(self):
+        log = ((0, ("put", "emp", EU, ()), 4), (1, ("put", "emp", EU, ()), 4))
+        self.assertEqual(due((("log", log), ("log", log[:1]))), ((0, "emp", 4), (1, "emp", 4)))
+
     def test_a_put_is_born_at_its_tick(self):
         for born in range(7):
             log = ((born, ("put", "emp", EU, ()), 3),)
