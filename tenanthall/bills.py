@@ -46,6 +46,17 @@ def sums_of(lines):
     return {place: sums[place] for place in sorted(sums) if sums[place] != (0, 0)}
 
 
+def sum_at(sums, place):
+    """(units, coins) of a (day, KIND), (0, 0) where there is nothing."""
+    return sums.get(place, (0, 0))
+
+
+def places_off(sums, others):
+    """The (day, KIND), rising, where two sums aren't the same."""
+    places = sorted(set(list(sums) + list(others)))
+    return [place for place in places if sum_at(sums, place) != sum_at(others, place)]
+
+
 def summed(lines):
     """LINES SUMMED."""
     return tuple([place + total for place, total in sums_of(lines).items()])

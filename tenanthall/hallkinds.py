@@ -24,6 +24,11 @@ PARTS = {
 }
 
 
+def step_parts(word):
+    """The kinds of what stands behind the word of a STEP; () where no STEP has this word, and of "all"."""
+    return PARTS.get(word, ())
+
+
 def is_slice(thing):
     """Whether it is a pair of a name and how many STEPS."""
     return is_tuple_of(thing, 2) and is_word(thing[0]) and is_number(thing[1])

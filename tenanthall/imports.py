@@ -4,7 +4,7 @@ from tenanthall.errors import NoHall
 from tenanthall.kinds import is_link
 from tenanthall.readings import read_store
 from tenanthall.rules import strays
-from tenanthall.stores import indexes_of, next_of, placed_rows, rows_of, tables_of
+from tenanthall.stores import indexes_of, next_of, placed_rows, rows_of, tables_of_either
 
 
 def newer_ids(store, parted):
@@ -46,6 +46,14 @@ def brought_table(store, parted, table, brought):
     return table, after, rows_of(store, table) + brought, tuple(indexes)
 
 
+def brought_store(store, parted, newer, tick):
+    """The STORE behind an IMPORT of PARTED at a tick, by the ids that its ROWS get."""
+    tables = []
+    for table in tables_of_either(store, parted):
+        tables.append(brought_table(store, parted, table, brought_rows(parted, table, newer, tick)))
+    return tuple(tables)
+
+
 def imported(store, parted, *, tick, land, rules=(), strict=False):
     """(STORE, pairs, loose): PARTED IMPORTED into a STORE of a HOUSE of a land."""
     spots = strays(parted, rules=rules, land=land)
@@ -55,11 +63,8 @@ def imported(store, parted, *, tick, land, rules=(), strict=False):
     loose = loose_links(parted, newer)
     if strict is True and loose != ():
         raise NoHall("link", loose[0][:2])
-    tables = []
-    for table in sorted(set(tables_of(store) + tables_of(parted))):
-        tables.append(brought_table(store, parted, table, brought_rows(parted, table, newer, tick)))
     pairs = [spot + (number,) for spot, number in newer.items()]
-    return tuple(tables), tuple(pairs), loose
+    return brought_store(store, parted, newer, tick), tuple(pairs), loose
 
 
 def imported_text(store, text, *, tick, land, rules=(), strict=False):

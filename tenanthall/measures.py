@@ -4,6 +4,11 @@ from tenanthall.conds import meeting
 from tenanthall.stores import indexes_of, link_at, row_of, rows_of
 
 
+def looks(job):
+    """Whether a JOB is an ASK that looks at ROWS by CONDS."""
+    return job[0] in ("rows", "count", "sum")
+
+
 def conds_of(ask):
     """The CONDS of an ASK "rows", "count", "sum"."""
     return ask[3] if ask[0] == "sum" else ask[2]
@@ -32,7 +37,7 @@ def measure_of(store, job):
         return 1
     if word == "index":
         return 1 + len(rows_of(store, table))
-    if word in ("rows", "count", "sum"):
+    if looks(job):
         return 1 + len(looked_at(store, job)[1])
     return 1 + many_looked_up(store, job)
 

@@ -4,7 +4,7 @@ from tenanthall.errors import NoHall
 from tenanthall.kinds import is_refusal
 from tenanthall.places import places_struck, spot_named
 from tenanthall.rules import is_stray, strays
-from tenanthall.stores import placed_rows, spotted_rows, with_spotted
+from tenanthall.stores import placed_rows, row_turned, spotted_rows, with_spotted
 
 
 def begun_move(store, many, *, land, rules=()):
@@ -45,8 +45,16 @@ def copied_on(move, store):
     return many, firsts, last, with_spotted(copy, rows), log
 
 
-def led_on(rows, done):
-    """Spotted ROWS led on, in place, by a DEED of a LOG."""
+def led(rows, log):
+    """A dict of ROWS by their SPOTS, LED by a LOG, DEED by DEED."""
+    rows = {spot: rows[spot] for spot in rows}
+    for done in log:
+        lead_on(rows, done)
+    return rows
+
+
+def lead_on(rows, done):
+    """Lead ROWS by their SPOTS on, in place, by a DEED of a LOG."""
     tick, deed, told = done
     word, spot = deed[0], spot_named(done)
     if word == "put":
@@ -54,24 +62,13 @@ def led_on(rows, done):
     elif word == "drop" and spot in rows:
         del rows[spot]
     elif word in ("set", "add") and spot in rows:
-        rows[spot] = turned(rows[spot], deed[3], told)
-
-
-def turned(row, k, worth):
-    """A ROW whose worth k is another one, where it has one."""
-    number, land, born, worths = row
-    if k >= len(worths):
-        return row
-    return number, land, born, worths[:k] + (worth,) + worths[k + 1:]
+        rows[spot] = row_turned(rows[spot], deed[3], told)
 
 
 def store_there(move, store):
     """The STORE THERE: the tables of the STORE as they are, and the ROWS LED."""
     copy, log = move[3:]
-    rows = spotted_rows(copy)
-    for done in log:
-        led_on(rows, done)
-    return with_spotted(store, rows)
+    return with_spotted(store, led(spotted_rows(copy), log))
 
 
 def move_struck(move, store, *, tick, rules=()):

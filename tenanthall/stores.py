@@ -8,6 +8,16 @@ def tables_of(store):
     return tuple([entry[0] for entry in store])
 
 
+def tables_of_either(store, other):
+    """The tables that either of two STORES has, rising."""
+    return tuple(sorted(set(tables_of(store) + tables_of(other))))
+
+
+def has_table(store, table):
+    """Whether a STORE has a table."""
+    return table in tables_of(store)
+
+
 def table_in(store, table):
     """(table, next, rows, indexes) of a table, as of a void one where it isn't there."""
     for entry in store:
@@ -64,6 +74,19 @@ def with_spotted(store, spotted):
         rows = tuple([spotted[spot] for spot in sorted(spotted) if spot[0] == table])
         filled.append((table, after, rows, indexes))
     return tuple(filled)
+
+
+def with_table(store, entry):
+    """A STORE with (table, next, rows, indexes) in the place of that of its table, or there, too."""
+    return tuple(sorted([other for other in store if other[0] != entry[0]] + [entry]))
+
+
+def row_turned(row, k, worth):
+    """A ROW whose worth k is another one, where it has one."""
+    number, land, born, worths = row
+    if k >= len(worths):
+        return row
+    return number, land, born, worths[:k] + (worth,) + worths[k + 1:]
 
 
 def link_at(row, k):

@@ -54,6 +54,51 @@ def told_of_row(tables, deed, tick, rules):
     return told
 
 
+def fits_cond(worths, cond):
+    k, sign, value = cond
+    if k >= len(worths):
+        return False
+    if sign == "=":
+        return worths[k] == value
+    numbers = isinstance(worths[k], int) and isinstance(value, int)
+    return numbers and (worths[k] < value if sign == "<" else worths[k] > value)
+
+
+def ask_told(store, ask):
+    """What an ASK tells."""
+    word, table = ask[:2]
+    tables = {entry[0]: {row[0]: row for row in entry[2]} for entry in store}
+    if table not in tables:
+        return "no", "table"
+    rows = tables[table]
+    if word in ("get", "follow"):
+        if ask[2] not in rows:
+            return "no", "row"
+        worths = rows[ask[2]][3]
+        if word == "get":
+            return worths
+        link = worths[ask[3]] if ask[3] < len(worths) else None
+        if not isinstance(link, tuple) or link[0] != "link":
+            return "no", "worth"
+        linked = tables.get(link[1], {}).get(link[2])
+        return ("no", "link") if linked is None else linked[3]
+    conds = ask[3] if word == "sum" else ask[2]
+    found = [number for number in sorted(rows) if all(fits_cond(rows[number][3], cond) for cond in conds)]
+    if word == "rows":
+        return tuple(found)[:ask[3]]
+    if word == "count":
+        return len(found)
+    worths = [rows[number][3][ask[2]] for number in found if ask[2] < len(rows[number][3])]
+    return sum(worth for worth in worths if isinstance(worth, int))
+
+
+def job_done(store, job, *, tick, land, rules=()):
+    """(STORE, told) of a JOB DONE."""
+    if job[0] in ("put", "set", "add", "drop", "index"):
+        return deed_done(store, job, tick=tick, land=land, rules=rules)
+    return store, ask_told(store, job)
+
+
 def some_value(chance):
     return chance.choice((None, 0, -3, 7, ("said", "ann"), ("link", "emp", chance.randrange(9))))
 
@@ -66,6 +111,25 @@ def some_deed(chance, tables=TABLES, lands=LANDS):
         return word, table, chance.choice(lands), tuple(some_value(chance) for _ in range(chance.randrange(4)))
     more = {"set": (k, some_value(chance)), "add": (k, chance.randrange(-5, 6)), "drop": (), "index": ()}
     return (word, table, k if word == "index" else number) + more[word]
+
+
+def some_conds(chance):
+    return tuple((chance.randrange(4), chance.choice("==<>"), some_value(chance)) for _ in range(chance.choice((0, 1, 1, 2))))
+
+
+def some_ask(chance, tables=TABLES):
+    """Any ASK."""
+    word, table, k = chance.choice(("get", "rows", "count", "sum", "follow")), chance.choice(tables), chance.randrange(4)
+    more = {"get": (chance.randrange(12),), "rows": (some_conds(chance), chance.randrange(5)),
+            "count": (some_conds(chance),), "sum": (k, some_conds(chance)), "follow": (chance.randrange(12), k)}
+    return (word, table) + more[word]
+
+
+def some_job(chance, **more):
+    """Any JOB."""
+    if chance.random() < 0.6:
+        return some_deed(chance, **more)
+    return some_ask(chance, **{word: thing for word, thing in more.items() if word == "tables"})
 
 
 def some_store(chance, deeds=20, ticks=4, **more):

@@ -5,6 +5,22 @@ import inspect
 import unittest
 
 SIGNATURES = {
+    "jobs": ("done_job(store, job, *, tick, land, rules=())",),
+    "lookpapers": ("look_paper(store, ask)",),
+    "lookchecker": ("lets_look(store, ask, thing)",),
+    "queues": ("life_of(store)", "handed_in(life, job)", "sliced(life, many, *, tick, land, rules=())"),
+    "alone": ("tick_alone(life, share, *, tick, land, rules=())",
+              "run_alone(store, share, handed, *, ticks, land, rules=())"),
+    "slices": ("tick_house(house, lives, slices, *, tick, rules=())",
+               "run_house(house, stores, handed, *, ticks, orders=(), rules=())"),
+    "moveruns": ("run_moved(store, share, handed, *, ticks, begin, many, land, there, rules=())",),
+    "movechecker": ("lets_move(old, thing, *, many, land, rules=())",),
+    "importchecker": ("lets_import(store, parted, newer, thing, *, tick)",),
+    "backups": ("backup_of(store, *, tick)", "backup_struck(backup, *, tick, rules=())",
+                "restored(store, backup, *, tick, land, rules=())"),
+    "billchecker": ("lets_bill(notes, lines, until, thing, *, prices, calendar=(5, 4))",),
+    "halls": ("void_hall()",),
+    "hallsteps": ("hall_step(hall, thing, *, calendar=(5, 4))",),
     "kinds": ("is_number(thing)", "is_whole(thing)", "is_word(thing)", "is_value(thing)", "is_row(thing)",
               "is_store(thing)", "is_cond(thing)", "are_conds(thing)", "is_deed(thing)", "is_ask(thing)",
               "is_job(thing)"),
@@ -52,7 +68,17 @@ SIGNATURES = {
 
 METHODS = {
     ("formkeep", "FormKeep()"): ("job(self, form, fills)", "forms(self)", "read(self)", "__len__(self)"),
+    ("shelves", "Shelf(store=())"): ("do(self, job, *, tick, land, rules=())", "store(self)", "steps(self)",
+                                     "index(self, table, k)", "__len__(self)", "__eq__(self, other)"),
+    ("hall", "Hall(*, calendar=(5, 4))"): (
+        "step(self, thing)", "run(self, steps, *, most=200)", "back(self, *, times=1)", "now(self)", "then(self, k)",
+        "steps(self)", "log(self)", "admins(self)", "tenants(self)", "holding(self, name)", "sight(self, name)",
+        "shape(self, name)", "told(self, name, number)", "has(self, thing)", "counts(self)", "__len__(self)",
+        "__str__(self)", "__eq__(self, other)"),
+    ("desk", "Desk()"): ("say(self, row)", "counts(self)"),
 }
+
+VALUES = (("tokens", "NOUGHT", (0, 1)), ("days", "CALENDAR", (5, 4)), ("halls", "MANY", 4), ("hall", "LIMIT", 200))
 
 
 class Interface(unittest.TestCase):
@@ -65,6 +91,10 @@ class Interface(unittest.TestCase):
                 self.assertTrue(inspect.isfunction(called))
                 self.assertEqual(called.__module__, module.__name__)
                 self.assertEqual(called.__name__ + str(inspect.signature(called)), signature)
+
+    def test_values(self):
+        for name, word, value in VALUES:
+            self.assertEqual(vars(importlib.import_module(f"tenanthall.{name}"))[word], value)
 
     def test_classes_have_their_methods_in_their_own_bodies(self):
         for (name, signature), told in METHODS.items():

@@ -17,7 +17,7 @@ setdefault split splitlines startswith strip update upper values zfill bit_lengt
 isascii""".split())
 LIBRARY = {"heapq": {"heappush", "heappop"}, "math": {"gcd", "lcm", "isqrt", "comb", "perm", "factorial"},
            "itertools": {"product", "combinations", "permutations"}}
-OWN_DOUBLE = {"__init__", "__len__"}
+OWN_DOUBLE = {"__init__", "__len__", "__str__", "__eq__"}
 BARRED_NODES = (ast.Global, ast.AsyncFunctionDef, ast.AsyncFor, ast.AsyncWith, ast.Await, ast.GeneratorExp, ast.Div,
                 ast.AnnAssign, ast.Lambda, ast.Yield, ast.YieldFrom, ast.Import)
 BARRED_WORDS = r"\b(typing|enum|Enum|Generic|Protocol|ABC|namedtuple)\b|dataclass|overload|contextmanager|_wall|_Wall"
@@ -42,6 +42,20 @@ def given_names(tree):
             yield node.arg
         elif isinstance(node, ast.Name) and not isinstance(node.ctx, ast.Load):
             yield node.id
+
+
+def classes():
+    return [node for _, tree in trees() for node in ast.walk(tree) if isinstance(node, ast.ClassDef)]
+
+
+def own_methods():
+    return {node.name for made in classes() for node in made.body if isinstance(node, ast.FunctionDef)}
+
+
+def own_attributes():
+    """Attributes that methods assign to their own objects."""
+    return {node.attr for made in classes() for node in ast.walk(made)
+            if isinstance(node, ast.Attribute) and isinstance(node.ctx, ast.Store)}
 
 
 def imports(tree):
@@ -106,12 +120,29 @@ class Names(unittest.TestCase):
                     self.assertFalse(name.startswith("__"), (path, name))
 
     def test_builtins_and_methods_called_are_those_that_may_be(self):
+        own = own_methods()
         for path, tree in trees():
             used = {node.id for node in ast.walk(tree) if isinstance(node, ast.Name)}
             self.assertLessEqual({name for name in used if hasattr(builtins, name)}, CALLABLE | ERRORS, path)
             for node in ast.walk(tree):
                 if isinstance(node, ast.Call) and isinstance(node.func, ast.Attribute):
-                    self.assertIn(node.func.attr, METHODS, (path, node.lineno))
+                    self.assertIn(node.func.attr, METHODS | own, (path, node.lineno))
+
+    def test_no_name_is_a_method_and_an_attribute(self):
+        self.assertFalse(own_methods() & own_attributes())
+
+    def test_attributes_have_no_names_of_pythons_own_methods(self):
+        for name in own_attributes():
+            self.assertFalse(any(hasattr(kind, name) for kind in (str, int, list, dict, set, bytes)), name)
+
+    def test_finally_only_counts(self):
+        for path, tree in trees():
+            for node in ast.walk(tree):
+                if isinstance(node, ast.Try):
+                    for row in node.finalbody:
+                        self.assertIsInstance(row, ast.AugAssign, (path, row.lineno))
+                    for handler in node.handlers:
+                        self.assertRegex(handler.type.id, "^No[A-Z]", (path, handler.lineno))
 
     def test_one_binding_for_each_name(self):
         for path, tree in trees():
