@@ -21,9 +21,6 @@ ASKED = {
     "undo": ("number",),
 }
 
-# The desk never does these STEPS by their words.
-BARRED = ("import", "all")
-
 
 def read_row(row):
     """(word, things) that any text as a row asks."""
@@ -74,12 +71,10 @@ def steps_in(words):
 
 
 def step_in(words):
-    """What words write as a STEP."""
-    if words == [] or words[0] in BARRED:
+    """What words write as a STEP, but never one of an "import", nor an "all"."""
+    if words == [] or words[0] == "import":
         return None
     kinds = step_parts(words[0])
-    if kinds == ():
-        return None
     step = [words[0]]
     for at, kind in enumerate(kinds):
         # The last part may be of several words, or of none.

@@ -37,7 +37,7 @@ class Shelf:
             return answer_by(rows, job)
         self.measured += measure_of(self.shelved, job)
         self.shelved, told = done_job(self.shelved, job, tick=tick, land=land, rules=rules)
-        if is_deed(job) and has_table(self.shelved, job[1]):
+        if is_deed(job):
             self.at_hand[job[1]] = indexes_at_hand(self.shelved, job[1])
         return told
 

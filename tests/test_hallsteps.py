@@ -111,6 +111,10 @@ class Moves(unittest.TestCase):
         self.assertEqual(house_of(hall, "h")[2], (("ann", MUCH), ("bob", SLOW)))
         self.assertEqual(holding_of(hall, "ann")[0], "h")
 
+    def test_move_of_rows_that_stay_within_their_land(self):
+        steps = OPENED + (("rule", ("stay", EU)), ("open", "cy", "h", SLOW), put("cy", 1), TICK, ("move", "cy", "m"), TICK)
+        self.assertEqual(done(steps)[1][-1], (None, 1, "switched", "cy", "m"))
+
     def test_break(self):
         steps = self.steps + (("move", "ann", "k"), TICK)
         hall, events = done(OPENED + (("move", "ann", "k"), ("break", "ann")))
@@ -151,6 +155,10 @@ class Falls(unittest.TestCase):
         _, events = done((TICK, TICK), hall)
         self.assertEqual([event for event in events if event[0] == "bob"], [("bob", 3, "done", 1, (1,))])
         self.assertEqual(holding_of(done((TICK, TICK), hall)[0], "bob")[5], ((0, "room", 4), (0, "steps", 3)))
+
+    def test_the_first_one_of_a_queue(self):
+        steps = OPENED + tuple(put("bob", k) for k in range(4)) + (TICK,)
+        self.assertEqual(events_of(steps, ("fall", "h"))[-1], ("bob", 1, "anew", 1))
 
     def test_a_job_begun_but_not_paid_yet(self):
         hall, events = done(HOUSES + (("open", "ann", "h", ((0, 1), 1)), put("ann", 1), TICK, ("fall", "h")))

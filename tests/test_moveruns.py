@@ -113,6 +113,12 @@ class Meanwhile(unittest.TestCase):
             # Behind the SWITCH the land of the HOUSE is us: the "put" is refused.
             self.assertEqual(told[1], ((0, tick, 5 if word == "broken" else ("no", "stay")),))
 
+    def test_broken_it_stays_in_its_land(self):
+        handed = tuple((tick, ("put", "void", ZZ, ())) for tick in range(1, 9))
+        _, dones, paper = run_moved(STORE, MUCH, handed, ticks=9, begin=0, many=2, land=ZZ, there=US, rules=(("stay", ZZ),))
+        self.assertEqual(paper[0], "broken")
+        self.assertEqual([told for _, _, told in dones], list(range(2, 10)))
+
     def test_at_the_tick_of_its_beginning_it_does_not_break(self):
         handed = ((0, ("put", "emp", ZZ, ())), (0, ("drop", "emp", 5)))
         told = run_moved(STORE, MUCH, handed, ticks=6, begin=0, many=2, land=ZZ, there=US, rules=(("stay", ZZ),))
